@@ -1,0 +1,1 @@
+"""Rightchance: a database of facts with chances, and plans that are right on all tables."""

@@ -1,0 +1,82 @@
+"""The names and arguments of the interface, each in the file under which the document lists it."""
+
+import importlib
+import inspect
+import unittest
+
+import rightchance
+
+FUNCTIONS = {
+    "shares": {
+        "make_share": ["n", "d"],
+        "is_share": ["pair"],
+        "is_chance": ["pair"],
+        "plus": ["share", "other"],
+        "times": ["share", "other"],
+        "compare_shares": ["share", "other"],
+        "rest_of": ["chance"],
+        "product_of": ["shares"],
+        "any_of": ["chances"],
+    },
+    "values": {
+        "is_word": ["text"],
+        "is_row": ["row"],
+        "compare_values": ["left", "right"],
+        "sorted_rows": ["rows"],
+    },
+    "tables": {
+        "check_schema": ["schema"],
+        "is_place": ["schema", "name", "row"],
+        "make_store": ["schema", "facts"],
+        "chance_at": ["store", "name", "row"],
+    },
+}
+CLASSES = {
+    "errors": [
+        "ChanceError",
+        "NoSchema",
+        "NoRow",
+        "NoShare",
+        "DoubleFact",
+        "NoFact",
+        "NoPlan",
+        "NoChance",
+        "NoQuestion",
+        "BadText",
+        "NoKept",
+    ],
+}
+
+
+class TestInterface(unittest.TestCase):
+    def test_the_package_can_be_imported(self):
+        self.assertEqual(rightchance.__name__, "rightchance")
+
+    def test_functions_and_their_arguments(self):
+        for file, functions in FUNCTIONS.items():
+            module = importlib.import_module(f"rightchance.{file}")
+            for name, arguments in functions.items():
+                with self.subTest(file=file, name=name):
+                    function = getattr(module, name)
+                    self.assertTrue(inspect.isfunction(function))
+                    self.assertEqual(function.__module__, f"rightchance.{file}")
+                    self.check_arguments(function, arguments)
+
+    def check_arguments(self, function, arguments):
+        parameters = list(inspect.signature(function).parameters.values())
+        self.assertEqual([parameter.name for parameter in parameters], arguments)
+        for parameter in parameters:
+            self.assertEqual(parameter.kind, inspect.Parameter.POSITIONAL_OR_KEYWORD)
+            self.assertIs(parameter.default, inspect.Parameter.empty)
+
+    def test_classes(self):
+        for file, classes in CLASSES.items():
+            module = importlib.import_module(f"rightchance.{file}")
+            for name in classes:
+                with self.subTest(file=file, name=name):
+                    self.assertTrue(inspect.isclass(getattr(module, name)))
+                    self.assertEqual(getattr(module, name).__module__, f"rightchance.{file}")
+
+
+if __name__ == "__main__":
+    unittest.main()
