@@ -30,6 +30,29 @@ FUNCTIONS = {
         "make_store": ["schema", "facts"],
         "chance_at": ["store", "name", "row"],
     },
+    "questions": {
+        "check_question": ["schema", "question"],
+        "variables_of": ["join"],
+        "is_simple": ["join"],
+        "put_row": ["question", "row"],
+    },
+    "writing": {
+        "write_book": ["schema", "store"],
+        "write_question": ["question"],
+        "write_circuit": ["circuit"],
+        "write_plan": ["join", "plan"],
+    },
+    "reading": {
+        "read_book": ["text"],
+        "read_question": ["schema", "text"],
+        "read_plan": ["join", "text"],
+    },
+    "worlds": {
+        "count_worlds": ["store"],
+        "world_at": ["store", "n"],
+        "number_of": ["store", "world"],
+        "chance_of_world": ["store", "world"],
+    },
 }
 CLASSES = {
     "errors": [
