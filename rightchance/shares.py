@@ -43,7 +43,10 @@ def times(share, other):
     """Return the product of two shares."""
     n, d = share
     m, e = other
-    return make_share(n * m, d * e)
+    # The pairs are in lowest terms, so what the product has in common crosses over. These divisors are found
+    # much faster than that of the whole product, where a long share meets a short one.
+    left, right = gcd(n, e), gcd(m, d)
+    return ((n // left) * (m // right), (d // right) * (e // left))
 
 
 def compare_shares(share, other):

@@ -2,7 +2,10 @@
 
 import unittest
 
+from rightchance.bounds import plan_of_order
 from rightchance.errors import BadText
+from rightchance.judging import is_right, unsafe_variables
+from rightchance.plans import number_of_plan
 from rightchance.reading import read_book, read_plan, read_question
 from rightchance.shares import any_of, make_share
 
@@ -24,6 +27,25 @@ class TestExamples(unittest.TestCase):
         join = read_question((("r", 1), ("s", 1)), "[] r(x), s(y)")[1][0]
         plan = ("project", "x", ("project", "y", ("join", (("scan", 0), ("scan", 1)))))
         self.assertEqual(read_plan(join, "!x !y [r(x) * s(y)]"), plan)
+
+    def test_the_numbers_of_plans(self):
+        join = read_question((("r", 1), ("s", 1)), "[] r(x), s(y)")[1][0]
+        store = (("r", (1,), (1, 2)), ("s", (1,), (1, 1)), ("s", (2,), (1, 1)))
+        self.assertEqual(number_of_plan(store, join, read_plan(join, "!x !y [r(x) * s(y)]")), (3, 4))
+        self.assertEqual(number_of_plan(store, join, read_plan(join, "[!x r(x) * !y s(y)]")), (1, 2))
+
+    def test_judging_plans(self):
+        join = read_question((("r", 1), ("s", 1)), "[] r(x), s(y)")[1][0]
+        plan = read_plan(join, "!x !y [r(x) * s(y)]")
+        judged = (unsafe_variables(join, plan), is_right(join, plan))
+        self.assertEqual(judged, (("x", "y"), False))
+        self.assertIs(is_right(join, read_plan(join, "[!x r(x) * !y s(y)]")), True)
+
+    def test_the_plan_of_an_order(self):
+        schema = (("r", 1), ("s", 2), ("t", 1))
+        join = read_question(schema, "[] r(x), s(x, y), t(y)")[1][0]
+        plan = ("project", "x", ("join", (("scan", 0), ("project", "y", ("join", (("scan", 1), ("scan", 2)))))))
+        self.assertEqual(plan_of_order(join, ("y", "x")), plan)
 
 
 if __name__ == "__main__":

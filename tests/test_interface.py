@@ -53,6 +53,31 @@ FUNCTIONS = {
         "number_of": ["store", "world"],
         "chance_of_world": ["store", "world"],
     },
+    "plainly": {
+        "answers": ["places", "question"],
+        "holds": ["places", "question"],
+        "plain_chance": ["store", "question"],
+    },
+    "plans": {
+        "is_plan": ["join", "plan"],
+        "columns_of": ["join", "plan"],
+        "atoms_beneath": ["plan"],
+        "numbers_of": ["store", "join", "plan"],
+        "number_of_plan": ["store", "join", "plan"],
+    },
+    "judging": {
+        "unsafe_variables": ["join", "plan"],
+        "is_right": ["join", "plan"],
+        "parting_store": ["schema", "join", "plan"],
+        "right_plan": ["join"],
+    },
+    "hierarchy": {
+        "right_plan": ["join"],
+    },
+    "bounds": {
+        "plan_of_order": ["join", "order"],
+        "best_order": ["store", "join"],
+    },
 }
 CLASSES = {
     "errors": [

@@ -226,7 +226,8 @@ class TestChanceAt(unittest.TestCase):
             self.assertEqual(chance_at(self.store, name, row), chance)
 
     def test_places_without_a_fact(self):
-        for name, row in (("open", (2,)), ("open", ("b",)), ("works", ("a", 1)), ("works", (1, "b")), ("works", (2, "a"))):
+        places = (("open", (2,)), ("open", ("b",)), ("works", ("a", 1)), ("works", (1, "b")), ("works", (2, "a")))
+        for name, row in places:
             self.assertEqual(chance_at(self.store, name, row), (0, 1))
 
     def test_the_row_of_another_table(self):

@@ -103,7 +103,8 @@ class TestWritePlan(unittest.TestCase):
 
     def test_joins(self):
         self.check(("join", (("scan", 0), ("scan", 1))), "[r(x) * s(x, \"a\")]")
-        self.check(("join", (("scan", 2), ("scan", 1), ("scan", 0), ("scan", 3))), "[rain() * s(x, \"a\") * r(x) * t(-3, y)]")
+        plan = ("join", (("scan", 2), ("scan", 1), ("scan", 0), ("scan", 3)))
+        self.check(plan, "[rain() * s(x, \"a\") * r(x) * t(-3, y)]")
 
     def test_joins_inside_each_other(self):
         inner = ("join", (("scan", 0), ("scan", 2)))
@@ -175,7 +176,8 @@ class TestWriteCircuit(unittest.TestCase):
         self.check(deep, "t() ? (r(1) ? (s(2) ? yes : no) : (s(2) ? yes : no)) : no")
 
     def test_other_circuits_inside_a_case_and_each_other(self):
-        self.check(("case", "t", (), ("any", (R, S)), ("both", (S, R))), "t() ? [r(1) / s(2, \"a\")] : [s(2, \"a\") * r(1)]")
+        circuit = ("case", "t", (), ("any", (R, S)), ("both", (S, R)))
+        self.check(circuit, "t() ? [r(1) / s(2, \"a\")] : [s(2, \"a\") * r(1)]")
         self.check(("any", (("both", (R, S)), ("any", (R, R)))), "[[r(1) * s(2, \"a\")] / [r(1) / r(1)]]")
         self.check(("both", (("any", ()), ("both", (R,)))), "[[] * [r(1)]]")
 
