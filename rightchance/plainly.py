@@ -64,8 +64,12 @@ def plain_chance(store, question):
     total = ZERO
     for n in range(count_worlds(unsure)):
         world = world_at(unsure, n)
-        there = set(world)
-        places = tuple([(name, row) for name, row, chance in store if chance == ONE or (name, row) in there])
-        if holds(places, question):
+        if holds(with_sure_places(store, world), question):
             total = plus(total, chance_of_world(unsure, world))
     return total
+
+
+def with_sure_places(store, world):
+    """Return the tuple of the places of a world and of all facts with the chance 1, in ascending order."""
+    there = set(world)
+    return tuple([(name, row) for name, row, chance in store if chance == ONE or (name, row) in there])
