@@ -66,17 +66,24 @@ def projections_of(plan):
 
 
 def scans_of(plan):
-    """Return the list of the pairs of an index and the tuple of the variables projected above it, for all scans."""
+    """Return the list of the pairs of an index and the tuple of the variables projected above it, for all scans.
+
+    Equal pairs may be left out.
+    """
     pairs = []
+    # A plan that is no valid one may be built of the same part over and over, more often than one could go through.
+    looked_at = []
     waiting = [(plan, ())]
     while waiting:
         part, taken = waiting.pop()
         if part[0] == "scan":
             pairs.append((part[1], taken))
-        elif part[0] == "project":
-            waiting.append((part[2], taken + (part[1],)))
-        else:
-            waiting.extend([(inner, taken) for inner in part[1]])
+        elif (part, taken) not in looked_at:
+            looked_at.append((part, taken))
+            if part[0] == "project":
+                waiting.append((part[2], taken + (part[1],)))
+            else:
+                waiting.extend([(beneath, taken) for beneath in part[1]])
     return pairs
 
 

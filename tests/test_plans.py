@@ -130,11 +130,9 @@ class TestIsPlan(unittest.TestCase):
         self.assertGreater(seen.count(False), 300)
 
     def test_many_parts_in_good_time(self):
-        plan = A
-        for _ in range(39):
-            plan = join_of(plan, plan)
-        self.check(False, closed(atom("r"), atom("s")), plan)
-        self.check(False, closed(atom("r"), atom("s")), ("join", (A, B) * 5000))
+        for plan in plans_of_repeated_parts():
+            self.assertIs(is_plan(RST, plan), False)
+            self.assertIs(is_plan(closed(atom("r"), atom("s")), plan), False)
 
     def test_deep_plans(self):
         names = [first + second for first in "abcdefgh" for second in "stuvw"]
@@ -209,6 +207,23 @@ class TestColumnsOf(unittest.TestCase):
                     self.check(join, part, plain_columns(join, part))
 
 
+    def test_many_parts_in_good_time(self):
+        # Without check, which would show the whole plan if something is wrong with it.
+        for plan in plans_of_repeated_parts():
+            self.assertEqual(columns_of(RST, plan), ("x", "y"))
+
+
+def plans_of_repeated_parts():
+    """Plans that are built of the same parts over and over; their columns are x and y, and their atoms 0 and 1."""
+    doubled, mixed, projected = join_of(A, B), join_of(A, B), join_of(A, B)
+    for _ in range(39):
+        doubled = join_of(doubled, doubled)
+        mixed = join_of(mixed, A, mixed, B, mixed)
+    for _ in range(19):
+        projected = join_of(projected, project("z", projected))
+    return doubled, mixed, projected, ("join", (A, B) * 5000)
+
+
 class TestAtomsBeneath(unittest.TestCase):
     def check(self, plan, *indexes):
         self.assertEqual(atoms_beneath(plan), indexes)
@@ -227,6 +242,10 @@ class TestAtomsBeneath(unittest.TestCase):
         self.check(join_of(("scan", HUGE), ("scan", -HUGE), ("scan", -1), A, ("scan", 10), ("scan", 9)),
                    -HUGE, -1, 0, 9, 10, HUGE)
         self.check(join_of(join_of(), project("", join_of(("scan", 7)))), 7)
+
+    def test_many_parts_in_good_time(self):
+        for plan in plans_of_repeated_parts():
+            self.check(plan, 0, 1)
 
 
 STORE = (
