@@ -32,9 +32,8 @@ def joined_plan(plans):
 
 def best_order(store, join):
     """Return the pair of the best order of the join for the store, and the number of its plan."""
-    orders = different_orders(join)
     best = None
-    for order in promising_orders(store, join, orders):
+    for order in promising_orders(store, join, list(orders_by_added(join).values())):
         number = number_of_plan(store, join, plan_of_order(join, order))
         # Of orders with the same number the first one is the best, so that a later one must be below it.
         if best is None or compare_shares(number, best[1]) < 0:
@@ -42,8 +41,8 @@ def best_order(store, join):
     return best
 
 
-def different_orders(join):
-    """Return the list of the orders of the join without those whose plan has the numbers of an earlier one's plan.
+def orders_by_added(join):
+    """Return the dict from the added variables of the atoms to the first order of the join in whose plan they are so.
 
     Plans in which each atom has the same added variables have the same number in every store.
     """
@@ -51,7 +50,7 @@ def different_orders(join):
     orders = {}
     for order in permutations(variables):
         orders.setdefault(added_in(join, plan_of_order(join, order)), order)
-    return list(orders.values())
+    return orders
 
 
 def promising_orders(store, join, orders):

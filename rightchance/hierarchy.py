@@ -1,16 +1,39 @@
-"""Right plans for the joins that have one."""
+"""Hierarchical joins, the clashes of others, and right plans."""
+
+from itertools import combinations
 
 from rightchance.errors import NoPlan
-from rightchance.questions import variables_among
+from rightchance.questions import variables_among, variables_of
+
+
+def atoms_of(join, variable):
+    """Return the tuple of the indexes of the atoms in which the variable stands, in ascending order."""
+    return tuple([index for index, (_, terms) in enumerate(join[1]) if ("var", variable) in terms])
+
+
+def is_hierarchical(join):
+    """Tell if the join is hierarchical."""
+    return clash_of(join) is None
+
+
+def clash_of(join):
+    """Return the clash of the join, or None if it is hierarchical."""
+    atoms = {x: atoms_of(join, x) for x in variables_of(join)}
+    for x, y in combinations(list(atoms), 2):
+        only, other_only = missing_in(atoms[x], atoms[y]), missing_in(atoms[y], atoms[x])
+        both = [index for index in atoms[x] if index in atoms[y]]
+        if only and both and other_only:
+            return (x, y, only[0], both[0], other_only[0])
+    return None
+
+
+def missing_in(indexes, others):
+    """Return the list of those of the indexes that are not among the other ones."""
+    return [index for index in indexes if index not in others]
 
 
 def right_plan(join):
     """Return a valid plan that is right, or raise NoPlan if there is none."""
-    return plan_by_parts(join)
-
-
-def plan_by_parts(join):
-    """Return what right_plan returns; a name of its own, so that another file can have a right_plan, too."""
     if not join[1]:
         raise NoPlan("a join without atoms has no valid plan")
     variables = [variables_among(terms) for _, terms in join[1]]

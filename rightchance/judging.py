@@ -1,6 +1,5 @@
 """Judging plans without looking at the tables: the safe projections, the right plans, and stores that part."""
 
-from rightchance.hierarchy import plan_by_parts
 from rightchance.plans import atoms_beneath, check_plan, projections_of
 from rightchance.questions import terms_under, variables_among, variables_of
 from rightchance.shares import ONE
@@ -50,8 +49,3 @@ def doubling_store(schema, join, variable, unsure):
             row = tuple([worth for _, worth in terms_under(valuation, terms)])
             facts[(name, row)] = HALF if index == unsure else ONE
     return make_store(schema, [(name, row, chance) for (name, row), chance in facts.items()])
-
-
-def right_plan(join):
-    """Return a valid plan that is right, or raise NoPlan if there is none."""
-    return plan_by_parts(join)

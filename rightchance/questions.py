@@ -64,7 +64,7 @@ def put_row(question, row):
     for head, body in question[1]:
         valuation = valuation_of(head, row)
         if valuation is not None:
-            closed.append(((), tuple([(name, terms_under(valuation, terms)) for name, terms in body])))
+            closed.append(((), body_under(valuation, body)))
     return (0, tuple(closed))
 
 
@@ -81,3 +81,8 @@ def valuation_of(terms, row):
 def terms_under(valuation, terms):
     """Return the tuple of the terms in which each variable of the valuation is replaced by its value."""
     return tuple([("value", valuation[x]) if kind == "var" and x in valuation else (kind, x) for kind, x in terms])
+
+
+def body_under(valuation, body):
+    """Return the body in which each variable of the valuation is replaced by its value."""
+    return tuple([(name, terms_under(valuation, terms)) for name, terms in body])

@@ -192,6 +192,22 @@ def plan_of(join, order):
     return at_hand[0] if len(at_hand) == 1 else ("join", tuple(at_hand))
 
 
+def plain_added(join, plan, above=()):
+    """The added variables of the atoms in a plan, as a dict from the indexes to sets, as [38] says it."""
+    if plan[0] == "scan":
+        own = variables_in(join[1][plan[1]][1])
+        return {plan[1]: {x for x in above if x not in own}}
+    if plan[0] == "project":
+        return plain_added(join, plan[2], above + plan[1:2])
+    return {index: names for part in plan[1] for index, names in plain_added(join, part, above).items()}
+
+
+def is_at_most(join, plan, other):
+    """Tell if the number of the plan is at most that of the other one in every store, as [38] says it."""
+    added, other_added = plain_added(join, plan), plain_added(join, other)
+    return all(added[index] <= other_added[index] for index in added)
+
+
 # Joins that are not hierarchical.
 LINKED = (
     closed(atom("r", "x"), atom("s", "x", "y"), atom("t", "y")),
@@ -231,7 +247,8 @@ def full_store(source, schema, most_facts, often=0.7, values=(1, 2), chances=((1
     places = [(name, row) for name, columns in schema for row in product(values, repeat=columns)]
     chosen = [place for place in places if source.random() < often]
     if len(chosen) > most_facts:
-        chosen = sorted(source.sample(chosen, most_facts))
+        sampled = source.sample(chosen, most_facts)
+        chosen = [place for place in chosen if place in sampled]
     return tuple([(name, row, source.choice(chances)) for name, row in chosen])
 
 
@@ -253,3 +270,62 @@ def random_plan(source, join):
             source.shuffle(plans)
             count = source.randint(2, len(plans))
             plans = [("join", tuple(plans[:count]))] + plans[count:]
+
+
+def random_question(source, schema, width=None, most_joins=3, most_atoms=3):
+    """A question that is valid for the schema."""
+    width = source.randint(0, 2) if width is None else width
+    joins = []
+    for _ in range(source.randint(0, most_joins)):
+        body = []
+        for _ in range(source.randint(0, most_atoms)):
+            name, columns = source.choice(schema)
+            terms = [source.choice((var("x"), var("x"), var("y"), var("y"), var("z"), value(1), value("a")))
+                     for _ in range(columns)]
+            body.append((name, tuple(terms)))
+        terms = [term for _, terms in body for term in terms] + [value(2), value("a")]
+        joins.append((tuple([source.choice(terms) for _ in range(width)]), tuple(body)))
+    return (width, tuple(joins))
+
+
+def random_case(source, most_facts, width=0):
+    """A store and a question that is valid for its schema."""
+    schema = (("r", 2), ("s", 1), ("t", 0))
+    if source.random() < 0.5:
+        store = full_store(source, schema, most_facts, values=(1, 2, "a"))
+    else:
+        store = random_store(source, schema, most_facts)
+    return store, random_question(source, schema, width)
+
+
+def not_valid_plans():
+    """Pairs of a simple closed join and a plan that is not valid for it, of each kind."""
+    q, r, s, t = atom("q"), atom("r", "x"), atom("s", "x", "y"), atom("t", "x")
+    a, b = ("scan", 0), ("scan", 1)
+
+    def project(names, plan):
+        for x in reversed(names):
+            plan = ("project", x, plan)
+        return plan
+
+    def join_of(*plans):
+        return ("join", plans)
+
+    pairs = [(closed(), plan) for plan in (a, join_of(), project("x", a))]
+    pairs.extend((closed(r), project("x", ("scan", k))) for k in (-1, 1, 10 ** 150, -10 ** 150))
+    pairs.extend((closed(q, r), plan) for plan in (
+        a, project("x", b), join_of(a, b), join_of(a, a, project("x", b)), join_of(a, project("x", join_of(b, b))),
+        join_of(a, project("x", b), ("scan", 2)),
+    ))
+    pairs.extend((closed(r), plan) for plan in (
+        a, project("xx", a), project("y", a), project("yx", a), project("xy", a), project("x", join_of(a)), join_of(a),
+        join_of(project("x", a)), join_of(), project("x", join_of()),
+    ))
+    pairs.extend((closed(r, t), plan) for plan in (
+        join_of(project("x", a), project("x", b)), project("x", join_of(project("x", a), b)), join_of(a, b),
+    ))
+    pairs.extend((closed(r, s), plan) for plan in (
+        project("x", join_of(a, b)), join_of(project("x", a), project("xy", b)),
+        project("x", join_of(a, project("xy", b))), project("y", join_of(project("x", a), project("x", b))),
+    ))
+    return pairs

@@ -1,20 +1,17 @@
-"""Safe projections, right plans and parting stores ([23]), and which joins have a right plan ([25], [26])."""
+"""Safe projections, right plans and parting stores ([23])."""
 
 import random
 import unittest
-from fractions import Fraction
 
-from rightchance import hierarchy, judging
 from rightchance.errors import NoPlan
 from rightchance.judging import is_right, parting_store, unsafe_variables
 from rightchance.plainly import plain_chance
-from rightchance.plans import is_plan, number_of_plan
+from rightchance.plans import number_of_plan
 from rightchance.reading import read_plan, read_question
 from rightchance.tables import make_store
-from rightchance.writing import write_plan
 from tests.oracles import (
-    all_variables, atom, chance_of_join, closed, is_hierarchical, is_valid, number_of, pair, plan_of, random_join,
-    random_plan, random_store, schema_of, unsafe_in, value, var,
+    all_variables, atom, chance_of_join, closed, number_of, random_join, random_plan, random_store, schema_of,
+    unsafe_in, value, var,
 )
 
 HUGE = 10 ** 150
@@ -200,99 +197,6 @@ class TestPartingStore(unittest.TestCase):
             for name in all_variables(join)[::-1]:
                 plan = ("project", name, plan)
             self.assertEqual(self.check(schema_of(join), join, plan), 1)
-
-
-class TestRightPlan(unittest.TestCase):
-    # The document lists right_plan under hierarchy.py, and judging.py has one, too.
-    functions = (hierarchy.right_plan, judging.right_plan)
-
-    def check_join(self, join):
-        for right_plan in self.functions:
-            with self.subTest(join=join):
-                if is_hierarchical(join) and join[1]:
-                    plan = right_plan(join)
-                    self.assertTrue(is_valid(join, plan))
-                    self.assertTrue(is_plan(join, plan))
-                    self.assertEqual(unsafe_in(join, plan), ())
-                else:
-                    with self.assertRaises(NoPlan) as caught:
-                        right_plan(join)
-                    self.assertIs(type(caught.exception), NoPlan)
-
-    def check(self, has_one, *texts):
-        for text in texts:
-            join = read_join(text)
-            self.assertIs(is_hierarchical(join), has_one)
-            self.check_join(join)
-
-    def test_the_join_without_atoms(self):
-        self.check_join(((), ()))
-
-    def test_joins_that_are_hierarchical(self):
-        self.check(True, "q()", "r(1)", "r(x)", "s(x, x)", "s(x, y)", "r(x), s(x, y)", "r(x), s(x, y), u(x, y, z)")
-
-    def test_joins_that_are_not(self):
-        self.check(False, "r(x), s(x, y), t(y)", "r(x), u(x, y, 1), t(y), q()", "s(x, y), u(y, z, z), r(x), t(z)")
-        for text in ("r(x), u(z, x, y), t(y)", "u(z, z, x), s(x, y), t(y)"):
-            self.check_join(read_join(text))
-
-    def test_parts_with_no_common_variable(self):
-        self.check(True, "r(x), t(y)", "q(), r(x)", "q(), r(1)", "r(x), s(y, z)", "r(x), s(x, y), t(z), q()")
-        self.check(False, "r(x), s(x, y), t(y), q()")
-
-    def test_variables_in_all_atoms(self):
-        self.check(True, "r(x), s(x, 1), u(x, x, x)", "r(x), t(x), s(x, x)", "s(x, y), u(y, x, z), r(x)")
-
-    def test_atoms_with_only_values(self):
-        self.check(True, "r(1), s(x, y)", "r(1), t(2), s(3, 4), q()", "r(1), s(x, 2)")
-        self.check(False, "r(x), s(x, y), t(y), u(1, 2, 3)")
-
-    def test_equal_sets_of_variables(self):
-        self.check(True, "s(x, y), u(x, y, x)", "s(x, y), u(y, x, 1)", "s(x, y), u(y, x, z)", "r(x), t(x)")
-
-    def test_the_plan_of_a_single_atom(self):
-        for right_plan in self.functions:
-            self.assertEqual(right_plan(read_join("q()")), ("scan", 0))
-            self.assertEqual(right_plan(read_join("r(x)")), ("project", "x", ("scan", 0)))
-
-    def test_random_joins(self):
-        source = random.Random(34)
-        counts = [0, 0]
-        for _ in range(500):
-            join = random_join(source, 5, "vwxyz", 4)
-            counts[is_hierarchical(join)] += 1
-            self.check_join(join)
-        self.assertGreater(min(counts), 100)
-
-    def test_the_number_is_the_chance_of_the_join(self):
-        source = random.Random(35)
-        for _ in range(200):
-            join = random_join(source, 3, values=(1, 2))
-            if is_hierarchical(join):
-                store = random_store(source, schema_of(join), 6, (1, 2))
-                with self.subTest(join=join, store=store):
-                    number = number_of_plan(store, join, hierarchy.right_plan(join))
-                    self.assertEqual(number, pair(chance_of_join(store, join)))
-
-    def test_a_join_has_a_right_plan_exactly_if_some_order_has(self):
-        source = random.Random(36)
-        for _ in range(200):
-            join = random_join(source, 4)
-            names = all_variables(join)
-            orders = [names, names[::-1], names[1:] + names[:1], names[2:] + names[:2]]
-            orders.extend([names[:1] + names[1:][::-1], names[::-1][1:] + names[::-1][:1]])
-            some = any(unsafe_in(join, plan_of(join, order)) == () for order in orders)
-            self.assertIs(some, is_hierarchical(join))
-
-    def test_the_greatest_joins(self):
-        nested = closed(*[atom("r" + "abcdefgh"[k], *"abcdefgh"[:k + 1]) for k in range(8)])
-        self.check_join(nested)
-        plan = hierarchy.right_plan(nested)
-        self.assertEqual(write_plan(nested, plan).count("!"), 8)
-        parts = closed(*[atom("r" + x, *[x + y for y in "stuvwxyz"]) for x in "abcdefgh"])
-        self.check_join(parts)
-        facts = [("r" + x, (1,) * 8, (1, 2)) for x in "abcdefgh"]
-        self.assertEqual(number_of_plan(tuple(facts), parts, hierarchy.right_plan(parts)), pair(Fraction(1, 256)))
 
 
 if __name__ == "__main__":

@@ -7,7 +7,8 @@ from fractions import Fraction
 from rightchance.plainly import answers, holds, plain_chance
 from rightchance.questions import put_row
 from tests.oracles import (
-    atom, chance_of_question, closed, pair, plain_answers, random_store, row_order, value, var, worlds_with_chances,
+    atom, chance_of_question, closed, pair, plain_answers, random_question, random_store, row_order, value, var,
+    worlds_with_chances,
 )
 
 HUGE = 10 ** 150
@@ -131,21 +132,6 @@ class TestAnswers(unittest.TestCase):
         body = lone + (atom("z", *["x" + name for name in "abcdef"]),)
         rows = tuple([(k,) for k in range(20, 25)])
         self.assertEqual(answers(places_of(*linked), (1, (((var("xf"),), body),))), rows)
-
-
-def random_question(source, schema, width=None, most_joins=3, most_atoms=3):
-    """A question that is valid for the schema."""
-    width = source.randint(0, 2) if width is None else width
-    joins = []
-    for _ in range(source.randint(0, most_joins)):
-        body = []
-        for _ in range(source.randint(0, most_atoms)):
-            name, columns = source.choice(schema)
-            terms = [source.choice((X, X, Y, Y, Z, value(1), value("a"))) for _ in range(columns)]
-            body.append((name, tuple(terms)))
-        terms = [term for _, terms in body for term in terms] + [value(2), value("a")]
-        joins.append((tuple([source.choice(terms) for _ in range(width)]), tuple(body)))
-    return (width, tuple(joins))
 
 
 class TestHolds(unittest.TestCase):
