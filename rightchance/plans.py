@@ -116,7 +116,11 @@ def atoms_beneath(plan):
 
 def numbers_of(store, join, plan):
     """Return the tuple of the pairs of a row and its number that is not 0, in ascending order."""
-    numbers = sheet_of(store, join, plan, Exact())[1]
+    return pairs_in_order(sheet_of(store, join, plan, Exact())[1])
+
+
+def pairs_in_order(numbers):
+    """Return the tuple of the pairs of a row and its number, in ascending order; the dict numbers has them by rows."""
     return tuple([(row, numbers[row]) for row in sorted(numbers, key=row_key)])
 
 

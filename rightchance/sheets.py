@@ -19,6 +19,20 @@ def sheet_of(store, join, plan, reckoning):
     return joined_sheet([sheet_of(store, join, part, reckoning) for part in plan[1]], reckoning)
 
 
+def sheets_of_parts(store, join, plan, reckoning):
+    """Return the list of the pairs of a part and its sheet for all parts of a part of a valid plan, itself the last."""
+    if plan[0] == "scan":
+        return [(plan, scan_sheet(store, join[1][plan[1]], reckoning))]
+    inner = [plan[2]] if plan[0] == "project" else plan[1]
+    lists = [sheets_of_parts(store, join, part, reckoning) for part in inner]
+    sheets = [pairs[-1][1] for pairs in lists]
+    if plan[0] == "project":
+        sheet = projected_sheet(sheets[0], plan[1], reckoning)
+    else:
+        sheet = joined_sheet(sheets, reckoning)
+    return [pair for pairs in lists for pair in pairs] + [(plan, sheet)]
+
+
 def scan_sheet(store, atom, reckoning):
     """Return the sheet of a scan of the atom."""
     name, terms = atom

@@ -5,6 +5,7 @@ import inspect
 import unittest
 
 import rightchance
+from rightchance.book import Book
 
 FUNCTIONS = {
     "shares": {
@@ -69,15 +70,70 @@ FUNCTIONS = {
         "unsafe_variables": ["join", "plan"],
         "is_right": ["join", "plan"],
         "parting_store": ["schema", "join", "plan"],
-        "right_plan": ["join"],
+    },
+    "comparing": {
+        "added_variables": ["join", "plan"],
+        "compare_plans": ["join", "plan", "other"],
+        "store_above": ["schema", "join", "plan", "other"],
+        "least_plans": ["join"],
+    },
+    "accounts": {
+        "account_of": ["store", "join", "plan"],
+        "first_excess": ["store", "join", "plan"],
     },
     "hierarchy": {
+        "atoms_of": ["join", "variable"],
+        "is_hierarchical": ["join"],
+        "clash_of": ["join"],
         "right_plan": ["join"],
     },
     "bounds": {
         "plan_of_order": ["join", "order"],
         "best_order": ["store", "join"],
     },
+    "lots": {
+        "smallest_lots": ["store", "question"],
+    },
+    "circuits": {
+        "make_circuit": ["store", "question"],
+        "judge_circuit": ["store", "question", "circuit"],
+        "number_of_circuit": ["store", "circuit"],
+    },
+    "chance": {
+        "chance_of": ["store", "question"],
+        "counts_of": ["store", "question"],
+        "mean_of": ["store", "question"],
+        "chances_of": ["store", "question"],
+    },
+    "influence": {
+        "chance_if": ["store", "question", "name", "row", "there"],
+        "influence_of": ["store", "question", "name", "row"],
+        "chance_of_both": ["store", "question", "other"],
+        "chance_given": ["store", "question", "other"],
+        "best_world": ["store", "question"],
+        "ranked_places": ["store", "question"],
+    },
+}
+METHODS = {
+    "book_text": [],
+    "do": ["deeds"],
+    "tell": ["name", "row", "chance"],
+    "drop": ["name", "row"],
+    "turn": ["name", "row", "chance"],
+    "keep": ["question"],
+    "question": ["number"],
+    "forget": ["number"],
+    "chances": ["number"],
+    "why": ["number", "row"],
+    "if_so": ["there", "missing", "number"],
+    "undo": [],
+    "redo": [],
+    "bound": ["number"],
+    "counts": ["number"],
+    "mean": ["number"],
+    "influences": ["number", "row"],
+    "plan_number": ["number", "plan"],
+    "papers": [],
 }
 CLASSES = {
     "errors": [
@@ -93,6 +149,7 @@ CLASSES = {
         "BadText",
         "NoKept",
     ],
+    "book": ["Book"],
 }
 
 
@@ -124,6 +181,17 @@ class TestInterface(unittest.TestCase):
                 with self.subTest(file=file, name=name):
                     self.assertTrue(inspect.isclass(getattr(module, name)))
                     self.assertEqual(getattr(module, name).__module__, f"rightchance.{file}")
+
+    def test_the_book(self):
+        self.assertEqual(list(inspect.signature(Book).parameters), ["schema"])
+        for name, arguments in METHODS.items():
+            with self.subTest(name=name):
+                self.assertTrue(inspect.isfunction(Book.__dict__[name]))
+                self.check_arguments(getattr(Book(()), name), arguments)
+        for name in ("book_schema", "whole_store"):
+            self.assertIsInstance(Book.__dict__[name], property)
+        self.assertIsInstance(Book.__dict__["of_text"], staticmethod)
+        self.check_arguments(Book.of_text, ["text"])
 
 
 if __name__ == "__main__":
