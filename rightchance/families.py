@@ -33,13 +33,13 @@ def all_facts(lots):
 
 def smallest_of(lots):
     """Return the tuple of those of the lots that do not have all facts of another one, each once, in order."""
-    different = sorted(set(lots))
-    least = min([size_of(lot) for lot in different], default=0)
-    kept = {lot: True for lot in different if size_of(lot) == least}
-    for lot in sorted([lot for lot in different if lot not in kept], key=size_of):
-        if not has_all_of_one(lot, kept):
+    least = min([size_of(lot) for lot in lots], default=0)
+    kept = {}
+    # As integers, lots are greater than those of whose facts they have all, so that these come before them.
+    for lot in sorted(set(lots)):
+        if size_of(lot) == least or not has_all_of_one(lot, kept):
             kept[lot] = True
-    return tuple(sorted(kept))
+    return tuple(kept)
 
 
 def has_all_of_one(lot, kept):
@@ -90,4 +90,4 @@ def linked_places(bits):
             home[1].extend(other[1])
             other[0] = 0
             other[1] = []
-    return sorted([sorted(places) for _, places in groups if places])
+    return [sorted(places) for _, places in groups if places]

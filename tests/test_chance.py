@@ -143,10 +143,15 @@ class TestManyFacts(unittest.TestCase):
         join = closed(atom("r", "x"), atom("s", "x", "y"), atom("t", "x", "z"))
         self.check(any_of([one] * 20), store, join)
 
+    def test_many_ways_to_go_on_from_one_value(self):
+        store = [(name, (1, k), (1, 5)) for name in "abcdefgh" for k in range(25)]
+        join = closed(*[atom(name, "x", name) for name in "abcdefgh"])
+        self.check(product_of([any_of([(1, 5)] * 25)] * 8), store, join)
+
     def test_joins_without_a_right_plan(self):
         join = closed(atom("r", "x"), atom("s", "x", "y"), atom("t", "y"))
         turned = closed(atom("t", "x"), atom("s", "y", "x"), atom("r", "y"))
-        for count, other in ((8, 8), (3, 30)):
+        for count, other in ((8, 8), (3, 30), (30, 3)):
             r, t = [("r", (k,), HALF) for k in range(count)], [("t", (k,), HALF) for k in range(other)]
             s = [("s", (a, b), (1, 3)) for a in range(count) for b in range(other)]
             expected = 0

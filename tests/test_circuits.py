@@ -173,6 +173,14 @@ class TestJudgeCircuit(unittest.TestCase):
         self.check(False, case(9, A, A), (1,))
         self.check(False, case(2, A, A), (1,), (1, 2))
 
+    def test_places_without_a_fact(self):
+        self.check(False, fact(9), ())
+        self.check(False, case(1, fact(9), NO), (1,))
+        self.check(False, case(1, YES, fact(9)), (1,))
+        self.check(False, either(A, fact(9)), (1,))
+        self.check(False, both(A, fact(9)), (1,))
+        self.check(False, case(9, YES, A), (1,))
+
     def test_case_with_a_circuit_that_is_not_right(self):
         self.check(False, case(1, C, both(B, C)), (1, 2), (1, 3), (2, 3))
         self.check(False, case(1, either(B, C), NO), (1, 2), (1, 3), (2, 3))

@@ -260,6 +260,13 @@ class TestBestWorld(unittest.TestCase):
         self.check_text("[] r(1), s(1, 1); [] r(2), r(3)", ("r", (1,)), ("s", (1, 1)), store=store)
         self.check_text("[] r(1), r(2); [] r(2), r(3)", ("r", (2,)), ("r", (3,)), ("s", (1, 1)), store=store)
 
+    def test_two_facts_that_cost_less_than_one(self):
+        # 1/2 times 1/2 of its chance is left to the world with the two facts, and 1/5 to that with the one.
+        store = (("r", (1,), (1, 6)), ("r", (2,), (1, 3)), ("r", (3,), (1, 3)))
+        self.check_text("[] r(1); [] r(2), r(3)", ("r", (2,)), ("r", (3,)), store=store)
+        store = (("r", (1,), (2, 9)), ("r", (2,), (1, 3)), ("r", (3,), (1, 3)))
+        self.check_text("[] r(1); [] r(2), r(3)", ("r", (1,)), store=store)
+
     def test_facts_that_are_likely_cost_nothing(self):
         store = (("r", (1,), (2, 3)), ("r", (2,), (3, 4)), ("r", (3,), (1, 3)))
         self.check_text("[] r(1), r(2); [] r(3)", ("r", (1,)), ("r", (2,)), store=store)
