@@ -64,8 +64,45 @@ class Formulas:
             if self.kinds[part] == "fact":
                 known[part] = YES if self.facts[part] & there else NO
             else:
-                known[part] = self.merged(self.kinds[part], [known.get(inner, inner) for inner in self.inner[part]])
+                known[part] = self.merged_with(part, known)
         return known.get(formula, formula)
+
+    def merged_with(self, formula, known):
+        """Return an "any" or "both" with what the dict known has for the formulas directly in it, if it has them."""
+        return self.merged(self.kinds[formula], [known.get(inner, inner) for inner in self.inner[formula]])
+
+    def replaced(self, formula, part, other):
+        """Return the formula with another one in the place of a part of it whose facts stand in it only there."""
+        known = {part: other}
+        for outer in self.parts_with([formula], self.facts[part]):
+            if outer > part:
+                known[outer] = self.merged_with(outer, known)
+        return known.get(formula, formula)
+
+    def parts_apart(self, formulas):
+        """Return the list of all parts that stand in the formulas more than once, and whose facts only in them.
+
+        A formula that is given twice stands there twice, too. Facts are left out.
+        """
+        parts = self.parts_with(formulas, -1)
+        uses = self.uses_in(parts)
+        for formula in formulas:
+            uses[formula] = uses.get(formula, 0) + 1
+        often = [part for part in parts if uses[part] > 1 and self.kinds[part] != "fact"]
+        return [part for part in often if self.stands_apart(part, uses)]
+
+    def uses_in(self, parts):
+        """Return the dict from each formula that is directly in some of the parts to their number."""
+        uses = {}
+        for part in parts:
+            for inner in self.inner[part]:
+                uses[inner] = uses.get(inner, 0) + 1
+        return uses
+
+    def stands_apart(self, part, uses):
+        """Tell if what is in the part is in nothing else; uses tells in how many formulas each one is directly."""
+        inside = self.uses_in(self.parts_with([part], -1))
+        return all([count == uses[inner] for inner, count in inside.items()])
 
     def parts_with(self, formulas, facts):
         """Return the list of all formulas among these and in them that have any of the facts, in ascending order."""

@@ -96,7 +96,7 @@ def best_world(store, question):
 def best_lots_of_body(store, body):
     """Return a list of one lot of the join with this body that costs a world least, or of none if it has no lot."""
     together = 0
-    for part in parts_apart(body):
+    for part in bodies_apart(body):
         lots = lots_of_body(store, part)
         if not lots:
             return []
@@ -104,7 +104,7 @@ def best_lots_of_body(store, body):
     return [together]
 
 
-def parts_apart(body):
+def bodies_apart(body):
     """Part a body into a list of bodies that have no variable and no table in common, so that their lots have no fact.
 
     There may be far more lots of the body than lots of them all.

@@ -8,6 +8,7 @@ there are many facts.
 """
 
 from rightchance.families import all_facts, facts_in, linked_places
+from rightchance.formulas import NO, YES
 from rightchance.ordering import bottom_up
 from rightchance.shares import make_share
 from rightchance.splitting import fact_to_ask
@@ -34,39 +35,45 @@ class Tallies:
         group = tuple(sorted(settled))
         for inner in bottom_up(group, self.groups_in):
             if inner not in self.known:
-                self.known[inner] = self.tally_of(self.steps[inner])
+                self.known[inner] = self.tally_of(inner)
         shares, whole, _ = self.known[group]
         return [make_share(share, whole) for share in shares]
 
     def groups_in(self, group):
-        """Return the groups of formulas from whose tallies that of the group is put together."""
+        """Return the list of the groups of formulas from whose tallies that of the group is put together."""
         if group in self.known:
             return []
         self.steps[group] = self.step_of(group)
-        return self.steps[group][2]
+        return self.steps[group][1]
 
     def step_of(self, group):
-        """Return the kind of what puts the tally of the group together, the index of a fact or None, and the groups."""
-        if len(group) == 1 and self.pool.kinds[group[0]] in ("no", "yes", "fact"):
-            fact = facts_in(self.pool.facts[group[0]])
-            return (self.pool.kinds[group[0]], fact[0] if fact else None, [])
-        single = len(group) == 1
-        kind = self.pool.kinds[group[0]] if single else "beside"
-        formulas = self.pool.inner[group[0]] if single else group
+        """Return the kind of what puts the tally of the group together, and the list of the groups for it.
+
+        For a "case" these are the part that is asked, and the groups for its
+        holding and for its not holding.
+        """
+        kind = self.pool.kinds[group[0]] if len(group) == 1 else "beside"
+        if kind in ("no", "yes", "fact"):
+            return (kind, [])
+        formulas = group if kind == "beside" else self.pool.inner[group[0]]
         linked = linked_places([self.pool.facts[formula] for formula in formulas])
         if len(linked) == 1:
-            fact = self.fact_to_settle(formulas)
-            return ("case", fact, [self.settled_group(group, 1 << fact, 0), self.settled_group(group, 0, 1 << fact)])
+            part = self.part_to_ask(formulas)
+            return ("case", [(part,), self.group_with(group, part, YES), self.group_with(group, part, NO)])
         parts = [tuple([formulas[k] for k in places]) for places in linked]
-        return (kind, None, [(self.pool.merged(kind, part),) for part in parts] if single else parts)
+        return (kind, parts if kind == "beside" else [(self.pool.merged(kind, inner),) for inner in parts])
 
-    def settled_group(self, group, there, missing):
-        """Return the group for the case that a fact, told as a bit, is there or missing."""
-        return tuple(sorted([self.pool.settled(formula, there, missing) for formula in group]))
+    def group_with(self, group, part, other):
+        """Return the group with another formula in the place of a part."""
+        return tuple(sorted([self.pool.replaced(formula, part, other) for formula in group]))
 
-    def fact_to_settle(self, formulas):
-        """Return the index of a fact whose being there or missing makes linked formulas simpler."""
-        return fact_to_ask([self.pool.facts[formula] for formula in formulas], self.lot_counts(formulas))
+    def part_to_ask(self, formulas):
+        """Return a part of linked formulas that makes them simpler if it is known to hold or not to hold."""
+        apart = self.pool.parts_apart(formulas)
+        if apart:
+            return apart[-1]
+        facts = [self.pool.facts[formula] for formula in formulas]
+        return self.pool.of_fact(fact_to_ask(facts, self.lot_counts(formulas)))
 
     def lot_counts(self, formulas):
         """Return the dict from the index of each fact of the formulas to the number of their lots that it is in.
@@ -88,25 +95,27 @@ class Tallies:
         facts = [part for part in parts if self.pool.kinds[part] == "fact"]
         return {facts_in(self.pool.facts[part])[0]: weights[part] for part in facts}
 
-    def tally_of(self, step):
-        """Return the tally of a group with this step; those of the groups in the step are known."""
-        kind, fact, groups = step
+    def tally_of(self, group):
+        """Return the tally of a group; those of the groups in its step are known."""
+        kind, groups = self.steps[group]
+        tallies = [self.known[inner] for inner in groups]
         if kind == "case":
-            return self.tally_of_case(fact, self.known[groups[0]], self.known[groups[1]])
+            return self.tally_of_case(*tallies)
         if kind == "fact":
-            n, d = self.fact_chances[fact]
-            return ([d - n, n], d, 1 << fact)
+            facts = self.pool.facts[group[0]]
+            n, d = self.fact_chances[facts_in(facts)[0]]
+            return ([d - n, n], d, facts)
         if kind in ("no", "yes"):
             return ([1, 0] if kind == "no" else [0, 1], 1, 0)
-        return joined_tally(kind, [self.known[group] for group in groups])
+        return joined_tally(kind, tallies)
 
-    def tally_of_case(self, fact, there, missing):
-        """Return the tally that has one of two tallies if a fact is there, and the other one if it is missing."""
-        n, d = self.fact_chances[fact]
+    def tally_of_case(self, asked, there, missing):
+        """Return the tally that has one of two tallies if what is asked holds, and the other one if not."""
         scale = self.whole_of(missing[2] & ~there[2])
         other_scale = self.whole_of(there[2] & ~missing[2])
-        shares = [n * scale * one + (d - n) * other_scale * other for one, other in zip(there[0], missing[0])]
-        return (shares, d * scale * there[1], 1 << fact | there[2] | missing[2])
+        rest, holds = asked[0][0] * other_scale, asked[0][1] * scale
+        shares = [holds * one + rest * other for one, other in zip(there[0], missing[0])]
+        return (shares, asked[1] * scale * there[1], asked[2] | there[2] | missing[2])
 
     def whole_of(self, facts):
         """Return the product of the denominators of the chances of facts."""

@@ -308,6 +308,22 @@ class TestCountsOf(unittest.TestCase):
         sure = tuple([("r", (k,), (1, 1)) for k in range(200)])
         self.assertEqual(counts_of(sure, (1, (((var("x"),), (atom("r", "x"),)),))), ((200, (1, 1)),))
 
+    def test_many_rows_with_a_common_part_in_good_time(self):
+        store = [(name, (k,), HALF) for name in "rt" for k in range(20)]
+        store += [("s", (k, n), HALF) for k in range(20) for n in range(4)]
+        store = tuple(sorted(store))
+        common = (atom("r", "x"), atom("s", "x", "y"))
+        none = Fraction(17, 32) ** 20
+        question = (1, (((var("z"),), (atom("t", "z"),) + common),))
+        shares, ways = {}, 1
+        for k in range(21):
+            shares[k] = (1 - none) * ways / 2 ** 20
+            ways = ways * (20 - k) // (k + 1)
+        shares[0] += none
+        self.assertEqual(counts_of(store, question), tuple([(k, pair(shares[k])) for k in range(21)]))
+        question = (1, tuple([((("value", k),), common) for k in range(8)]))
+        self.assertEqual(counts_of(store, question), ((0, pair(none)), (8, pair(1 - none))))
+
     def test_many_rows_with_common_facts_in_good_time(self):
         store = tuple([(name, (k,), HALF) for name in "rs" for k in range(12)])
         question = (2, (((var("x"), var("y")), (atom("r", "x"), atom("s", "y"))),))

@@ -104,6 +104,26 @@ class TestFormulas(unittest.TestCase):
         self.assertEqual(self.pool.settled(formula, 2, 5), NO)
         self.assertEqual(self.pool.settled(formula, 8, 0), formula)
 
+    def test_a_part_that_is_replaced(self):
+        a, b, c, d = self.facts
+        part = self.pool.merged("any", [a, b])
+        formula = self.pool.merged("both", [part, c])
+        self.assertEqual(self.pool.replaced(formula, part, YES), c)
+        self.assertEqual(self.pool.replaced(formula, part, NO), NO)
+        self.assertEqual(self.pool.replaced(formula, c, d), self.pool.merged("both", [part, d]))
+        self.assertEqual(self.pool.replaced(formula, d, YES), formula)
+        self.assertEqual(self.pool.replaced(part, part, c), c)
+
+    def test_parts_that_stand_apart(self):
+        a, b, c, d = self.facts
+        part = self.pool.merged("any", [a, b])
+        first, second = [self.pool.merged("both", [part, other]) for other in (c, d)]
+        self.assertEqual(self.pool.parts_apart([first, second]), [part])
+        self.assertEqual(self.pool.parts_apart([first]), [])
+        self.assertEqual(self.pool.parts_apart([first, second, a]), [])
+        self.assertEqual(self.pool.parts_apart([first, first]), [first])
+        self.assertEqual(self.pool.parts_apart([a, a, b]), [])
+
     def test_random_formulas(self):
         source = random.Random(124)
         chances = ((1, 2), (1, 3), (3, 4), (1, 1), (0, 1), (2, 7))
@@ -119,7 +139,7 @@ class TestFormulas(unittest.TestCase):
                 needed = 1 if kind == "any" else len(parts)
                 meanings[pool.merged(kind, parts)] = [world for world in range(64) if held[world] >= needed]
             store = tuple([("r", (k,), source.choice(chances)) for k in range(6)])
-            chosen = source.sample(sorted(meanings), 3)
+            chosen = [source.choice(sorted(meanings)) for _ in range(3)]
             shares = [Fraction(0)] * 4
             for world in range(64):
                 chance = Fraction(1)
